@@ -1,0 +1,1 @@
+"""Lanerules: cars of several lanes before one narrow place."""
