@@ -142,9 +142,8 @@ def is_history(row, value):
 
 def next_car(rule, row, last, waiting):
     """The one of the waiting cars, in ascending order and not none, that passes after last."""
-    lanes = [row[car] for car in waiting]
-    lane = foremost(preference_after(rule, last), lanes)
-    return waiting[lanes.index(lane)]
+    lane = foremost(preference_after(rule, last), [row[car] for car in waiting])
+    return [car for car in waiting if row[car] == lane][0]
 
 
 def each_step(rule, row, word):
@@ -184,8 +183,7 @@ def order_of(rule, row, word):
 
 def goes_before(rule, last, one, other):
     """Whether the lane one goes before the lane other after last."""
-    preference = preference_after(rule, last)
-    return preference.index(one) < preference.index(other)
+    return one != other and foremost(preference_after(rule, last), (one, other)) == one
 
 
 def is_precedence(rule, value):
