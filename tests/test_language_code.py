@@ -1,0 +1,84 @@
+"""LANGUAGE.md: what can be read off the code rule by rule, and that the readers see what is wrong."""
+
+from pathlib import Path
+from unittest import TestCase
+
+from tests.language_code import language_faults
+
+FOLDER = Path(__file__).resolve().parent.parent / "lanerules"
+
+BOX = """
+class Bad(ValueError):
+    def __init__(self, at):
+        self.at = at
+
+def each_row(rows):
+    for row in rows:
+        yield row
+
+def first(rows):
+    return rows[0]
+
+class Box:
+    def __init__(self, rows):
+        self.rows = rows
+"""
+
+WRONG = {
+    "L25": ["def told(text):\n    return text.format(1)", "def told(x):\n    return x.bit_count()"],
+    "L18": ["def told(box):\n    return box.other", "class Twice:\n    def a(self):\n        return 1\n"
+            "    def a(self):\n        return 2"],
+    "L23": ["def told(rows):\n    return each_row(rows)", "def told(rows):\n    kept = each_row(rows)\n    return kept",
+            "def told(rows):\n    return range(3)", "def told(rows):\n    kept = zip(rows, rows)\n    return 1",
+            "def told(rows):\n    xs = list(rows)\n    for x in xs:\n        xs.append(x)",
+            "def told(rows):\n    xs = list(rows)\n    for k, x in enumerate(xs):\n        xs[k] = x",
+            "def told(rows):\n    return first(each_row)"],
+    "L7": ["def told(rows):\n    return sum(x for x in rows)", "ROWS = [x for x in (1, 2)]",
+           "def told(rows):\n    return first(*list(rows))"],
+    "L24": ["def told(rows):\n    return set(rows)", "def told(rows):\n    return list({x for x in rows})"],
+    "L5": ["def told(rows):\n    return list(reversed(rows))\nclass Row:\n    def __getitem__(self, at):\n"
+           "        return 1\n    def __iter__(self):\n        raise TypeError('no')",
+           "class Row:\n    def __getitem__(self, at):\n        return 1",
+           "class Row:\n    def __hash__(self):\n        return 1",
+           "class Row:\n    def __bool__(self):\n        return self.rows"],
+    "L15": ["def told(first):\n    return first", "def told(rows):\n    each_row = 1\n    return each_row", "ROW = 1\nROW = 2"],
+    "L28": ["class Row:\n    def __eq__(self, other):\n        x = 1\n        return x == 2",
+            "class Row:\n    def __len__(self):\n        return self.rows",
+            "class Row:\n    def __str__(self):\n        return self.rows"],
+    "L22": ["def told(rows):\n    return first(rows, 1)", "def told(rows):\n    return first()",
+            "def told(rows):\n    return int(rows, base=2)", "def told(rows):\n    return first(row=rows)"],
+    "L27": ["def told(n):\n    return 2 ** n", "TEXT = '\\x41'", "TEXT = 'a._'"],
+    "L4": ["def told(rows=[]):\n    return rows"],
+    "L19": ["def told(rows):\n    try:\n        return rows[0]\n    except TypeError:\n        return 1"],
+    "L16": ["from lanerules.box import first\n"],
+}
+
+FINE = """
+def told(rows, text):
+    kept = [row for row in each_row(rows)]
+    for k, row in enumerate(rows):
+        kept.append(row + k)
+    for at in reversed(range(3)):
+        kept[at] = 1
+    seen = set(kept)
+    return (sorted(set(kept)), tuple(each_row(rows)), len(text.split(",")), first(kept), 7 in seen, first(rows=kept))
+"""
+
+
+class TestThePackage(TestCase):
+    def test_the_package(self):
+        texts = {path.name: path.read_text() for path in sorted(FOLDER.glob("*.py"))}
+        self.assertGreater(len(texts), 8)
+        self.assertEqual(language_faults(texts), [])
+
+
+class TestTheReaders(TestCase):
+    def test_what_is_fine(self):
+        self.assertEqual(language_faults({"box.py": BOX + FINE}), [])
+
+    def test_what_is_wrong(self):
+        for rule, parts in WRONG.items():
+            for part in parts:
+                text = part + BOX if part.startswith("from") else BOX + part + "\n"
+                found = language_faults({"box.py": text})
+                self.assertTrue([fault for fault in found if f": {rule}:" in fault], (rule, part, found))
