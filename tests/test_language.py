@@ -92,7 +92,7 @@ class TestLanguage(TestCase):
             self.assertFalse(isinstance(node.value, str) and "%" in node.value, (path, node.lineno))
 
     def test_lists_where_a_class_has_operators(self):
-        # Rule has operators, so these builtins take a list instead of a generator expression.
+        # Classes have operators, so these builtins take a list instead of a generator expression.
         for path, node in nodes(ast.Call):
             if ast.unparse(node.func) in ("sum", "min", "max", "sorted", "any", "all"):
                 found = [value for value in node.args if isinstance(value, ast.GeneratorExp)]

@@ -101,6 +101,8 @@ class TestPossible(ErrorCase):
                  lambda order: rivals(Z, R, order), lambda order: clashes(Z, R, order),
                  lambda order: verdict(Z, R, order), lambda order: bounds_of(Z, R, order),
                  lambda order: verdict_holds(Z, R, order, ("overtaken", 0)),
+                 lambda order: verdict_holds(Z, R, order, ("history", "aaaaappppp")),
+                 lambda order: verdict_holds(Z, R, order, None),
                  lambda order: possible_by(R, order), lambda order: possible_by(R, order, Z, K)]
         for order in WRONG_ORDERS + any_values():
             for call in calls:

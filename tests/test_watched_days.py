@@ -218,6 +218,14 @@ class TestExplanation(ErrorCase):
         found = explanation(4, *days)
         self.assertEqual((found[0], found[1], sorted(found[2])), ("ring", 0, [1, 2]))
 
+    def test_two_rings_one_behind_the_other(self):
+        # Lane 0 goes behind lanes of its own ring and of another one.
+        for lanes in permutations(range(4)):
+            told = ((0, 3), (3, 0), (1, 2), (2, 1), (1, 0))
+            days = [((lanes[one], lanes[other]), "aapp", (0, 1)) for one, other in told]
+            self.assertIs(explanation_holds(explanation(4, *days), 4, *days), True)
+            self.assertIn(explanation(4, *days)[1:], all_rings(4, days))
+
     def test_a_ring_after_the_last_lane(self):
         one = ((5, 5, 4), "aaappp", (0, 1, 2))
         other = ((5, 5, 4), "aaappp", (0, 2, 1))
