@@ -2,11 +2,11 @@
 
 from lanerules.bounds import MAX_CARS
 from lanerules.counts import counts_in, places_in, word_with
-from lanerules.errors import BadCount, BadWish, NoCar, NoHistory, NoIndex, NoLane, OtherOrder, TooLarge
+from lanerules.errors import BadCount, BadWish, NoCar, NoHistory, NoIndex, OtherOrder, TooLarge
 from lanerules.kinds import is_within
 from lanerules.orders import bounds_of, check_order, count_limits, has_order, is_car
 from lanerules.rising import count_rising, rising_after, rising_at, rising_index, tightened
-from lanerules.rules import is_history, is_lane, order_of
+from lanerules.rules import check_lane, is_history, order_of
 
 
 def counts_of(row, word):
@@ -141,8 +141,7 @@ def longest_line(rule, row, order):
 def longest_in_lane(rule, row, order, lane):
     """The least and the greatest number of cars of this lane that wait at once at most."""
     check_order(row, order)
-    if not is_lane(rule, lane):
-        raise NoLane(lane)
+    check_lane(rule, lane)
     return longest_of(rule, row, order, [car for car in range(len(row)) if row[car] == lane])
 
 

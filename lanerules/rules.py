@@ -20,9 +20,22 @@ def is_rule(value):
     return rule_error(value) is None
 
 
+def check_rule(value):
+    """Raise BadRule(error) if value is not a rule."""
+    error = rule_error(value)
+    if error is not None:
+        raise BadRule(error)
+
+
 def is_lane(rule, value):
     """Whether value is a lane of the rule."""
     return is_within(value, 0, len(rule) - 2)
+
+
+def check_lane(rule, value):
+    """Raise NoLane(value) if value is not a lane of the rule."""
+    if not is_lane(rule, value):
+        raise NoLane(value)
 
 
 def row_error(rule, value):
@@ -78,8 +91,7 @@ def preference_after(rule, last):
     """The preference that counts after last, or at the start if last is None."""
     if last is None:
         return rule[0]
-    if not is_lane(rule, last):
-        raise NoLane(last)
+    check_lane(rule, last)
     return rule[1 + last]
 
 
@@ -94,8 +106,7 @@ def first_lane(rule, last, *waiting):
     if len(waiting) == 0:
         raise Empty()
     for lane in waiting:
-        if not is_lane(rule, lane):
-            raise NoLane(lane)
+        check_lane(rule, lane)
     return foremost(preference, waiting)
 
 
@@ -200,9 +211,7 @@ class Rule:
     """A rule as an object that can be called."""
 
     def __init__(self, value):
-        error = rule_error(value)
-        if error is not None:
-            raise BadRule(error)
+        check_rule(value)
         self.preferences = value
 
     @property

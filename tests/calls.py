@@ -2,11 +2,14 @@
 
 from itertools import islice
 
-from lanerules import histories, learning, orders, rules
+from lanerules import fairness, histories, learning, orders, rules, texts
+from lanerules.crossings import Crossing, WatchedCrossing
+from lanerules.fairness import Bounds
 from lanerules.learning import Learned
 from lanerules.orders import Orders
 from lanerules.rules import Rule
-from tests.samples import R, Z
+from lanerules.shells import Shell
+from tests.samples import K, R, Z
 from tests.watched import D, E, F
 
 O = (0, 2, 1, 4, 3)
@@ -97,5 +100,65 @@ def history_calls(value):
     ]
 
 
+def rings(rule, lane):
+    return list(fairness.each_ring(rule, lane))
+
+
+def fairness_calls(value):
+    made = Bounds(Z)
+    return [
+        (fairness.bound_of, Z, value), (fairness.lane_verdict, Z, value), (fairness.lane_verdict_holds, Z, value, None),
+        (fairness.lane_verdict_holds, Z, 1, value), (fairness.lane_verdict_holds, K, 1, ("ring", value)),
+        (fairness.lane_verdict_holds, K, 1, ("ring", (0, value))), (fairness.lane_verdict_holds, Z, 1, (value, (0,))),
+        (fairness.lane_verdict_holds, Z, 1, ("bound", value, (1, 0, 1))),
+        (fairness.lane_verdict_holds, Z, 1, ("bound", (value, 0), (1, 0, 1))),
+        (fairness.lane_verdict_holds, Z, 1, ("bound", (None, value), (1, 0, 1))),
+        (fairness.lane_verdict_holds, Z, 1, ("bound", (None, 0), value)),
+        (fairness.lane_verdict_holds, Z, 1, ("bound", (None, 0), (1, value, 1))), (rings, K, value),
+        (fairness.favoured, Z, value, 0), (fairness.favoured, Z, 0, value), (fairness.mending, Z, value),
+        (fairness.waits, Z, R, value), (fairness.passed_over, Z, R, value), (fairness.worst_day, Z, value, 1),
+        (fairness.worst_day, K, 1, value), (Bounds, value), (made.__getitem__, value), (made.__contains__, value),
+        (made.__eq__, value),
+    ]
+
+
+def on_new(kind, name, *told, **more):
+    """What a method of a new crossing returns, and the crossing behind it."""
+    crossing = kind.of(Z, *R)
+    crossing.go()
+    return (getattr(crossing, name)(*told, **more), crossing)
+
+
+def asked(kind, query, version):
+    return on_new(kind, query, version=version)[0]
+
+
+def bounded(rule, bound):
+    return WatchedCrossing(rule, bound=bound)
+
+
+def crossing_calls(value):
+    found = [(bounded, value, 2), (bounded, Z, value)]
+    for kind in (Crossing, WatchedCrossing):
+        found += [(kind, value), (kind.of, value, 0), (kind.of, Z, 0, value)]
+        found += [(on_new, kind, name, value) for name in ("come", "change", "come_all", "go_until", "attempt", "__call__",
+                                                           "__contains__", "__getitem__", "__eq__")]
+        found += [(on_new, kind, "come_all", 0, value), (on_new, kind, "attempt", [value]),
+                  (on_new, kind, "attempt", (("go",), ("come", value))), (on_new, kind, "attempt", [("change", value)]),
+                  (on_new, kind, "attempt", [(value,)]), (on_new, kind, "attempt", [(value, 0)])]
+        found += [(asked, kind, query, value) for query in ("current", "row", "waiting", "passed")]
+    return found
+
+
+def talk(*values):
+    return Shell.fed(Crossing.of(Z, *R), *values).transcript()
+
+
+def text_calls(value):
+    return [(texts.parse_rule, value), (texts.parse_numbers, value, 1), (texts.parse_numbers, value, 40),
+            (talk, value), (talk, "go", value, value), (Shell(Crossing(Z)), value), (Shell(Crossing(Z)).execute, value)]
+
+
 def calls(value):
-    return rule_calls(value) + order_calls(value) + learning_calls(value) + history_calls(value)
+    return [*rule_calls(value), *order_calls(value), *learning_calls(value), *history_calls(value), *fairness_calls(value),
+            *crossing_calls(value), *text_calls(value)]

@@ -5,6 +5,8 @@ import builtins
 import io
 import tokenize
 
+from tests import class_code
+
 METHODS = set("""append clear copy count endswith extend find get index insert isalnum isalpha isdigit islower isspace
     isupper items join keys ljust lower lstrip partition pop remove replace reverse rfind rjust rpartition rsplit rstrip
     setdefault split splitlines startswith strip update upper values zfill bit_length add discard""".split())
@@ -36,6 +38,8 @@ class Code:
         self.functions = {node.name: node for node in defined if isinstance(node.parent, ast.Module)}
         self.stored = {node.attr for node in every
                        if isinstance(node, ast.Attribute) and isinstance(node.ctx, ast.Store)}
+        self.values = {target.id for node in every if isinstance(node, ast.ClassDef) for row in node.body
+                       if isinstance(row, ast.Assign) for target in row.targets}
         self.generators = {node.name for node in defined
                            if any(isinstance(row, (ast.Yield, ast.YieldFrom)) for row in ast.walk(node))}
 
@@ -69,7 +73,7 @@ def method_faults(code):
             own = node.attr in code.methods or ast.unparse(node.value).endswith("super()")
             if not own and node.attr not in METHODS and node.attr not in OPERATORS:
                 yield name, node, "L25: a method that is not listed"
-        elif isinstance(node.ctx, ast.Load) and node.attr not in code.stored | code.methods:
+        elif isinstance(node.ctx, ast.Load) and node.attr not in code.stored | code.methods | code.values:
             yield name, node, "L18: an attribute that no class assigns"
 
 
@@ -267,7 +271,7 @@ def cycle_faults(code):
 
 
 READERS = (method_faults, generator_faults, set_faults, iteration_faults, loop_faults, name_faults, operator_shape_faults,
-           call_faults, value_faults, handler_faults, text_faults, cycle_faults)
+           call_faults, value_faults, handler_faults, text_faults, cycle_faults, *class_code.READERS)
 
 
 def language_faults(texts):

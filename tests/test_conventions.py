@@ -3,13 +3,17 @@
 from copy import deepcopy
 from inspect import isclass, isfunction, signature
 
-from lanerules import histories, learning, orders, rules
+from lanerules import crossings, fairness, histories, learning, orders, rules, shells, texts
+from lanerules.crossings import Crossing, WatchedCrossing
 from lanerules.errors import PassError
+from lanerules.fairness import Bounds
 from lanerules.learning import Learned
 from lanerules.orders import Orders
 from lanerules.rules import Rule
-from tests.calls import O, calls, steps
-from tests.samples import R, Z, ErrorCase, any_values
+from lanerules.shells import Shell
+from tests.calls import O, calls, rings, steps
+from tests.crossing_model import shown_by
+from tests.samples import K, R, Z, ErrorCase, any_values
 from tests.watched import D, E, F
 
 SIGNATURES = {
@@ -49,8 +53,29 @@ SIGNATURES = {
         "count_meeting": "(rule, row, order, *wishes)",
         "wish_follows": "(rule, row, order, wish, *wishes)",
     },
+    fairness: {
+        "bound_of": "(rule, lane)", "lane_bounds": "(rule)", "lane_verdict": "(rule, lane)",
+        "lane_verdict_holds": "(rule, lane, value)", "starving": "(rule)", "each_ring": "(rule, lane)",
+        "favoured": "(rule, lane, last)", "mending": "(rule, lane)", "waits": "(rule, row, word)",
+        "passed_over": "(rule, row, word)", "worst_day": "(rule, lane, count)", "telling_day": "(rule, other)",
+        "telling_days": "(rule, *others)", "Bounds": "(rule)",
+    },
+    crossings: {"Crossing": "(rule)", "WatchedCrossing": "(rule, *, bound=None)"},
+    texts: {
+        "rule_text": "(rule)", "parse_rule": "(value)", "numbers_text": "(numbers)", "parse_numbers": "(value, limit)",
+    },
+    shells: {"Shell": "(crossing)"},
 }
-CLASSES = {"Rule": Rule, "Orders": Orders, "Learned": Learned}
+CLASSES = {"Rule": Rule, "Orders": Orders, "Learned": Learned, "Bounds": Bounds, "Crossing": Crossing,
+           "WatchedCrossing": WatchedCrossing, "Shell": Shell}
+OF_CROSSINGS = {
+    "come": "(self, lane)", "go": "(self)", "change": "(self, rule)", "come_all": "(self, *lanes)",
+    "go_until": "(self, car)", "undo": "(self)", "current": "(self, *, version=None)", "row": "(self, *, version=None)",
+    "waiting": "(self, *, version=None)", "passed": "(self, *, version=None)", "edits": "(self)", "word": "(self)",
+    "foresee": "(self, *, most=None)", "attempt": "(self, batch, *, on_step=None)", "copy": "(self)",
+    "__len__": "(self)", "__eq__": "(self, other)", "__str__": "(self)", "__call__": "(self, lane)", "__contains__": None,
+    "__getitem__": None, "__bool__": "(self)", "__iter__": "(self)",
+}
 METHODS = {
     Rule: {"__call__": "(self, last, waiting)", "__getitem__": None, "__contains__": None, "__eq__": None,
            "__iter__": "(self)"},
@@ -59,14 +84,27 @@ METHODS = {
     Learned: {"__call__": "(self, row, word)", "__getitem__": None, "__contains__": None,
               "__add__": "(self, other)", "implies": "(self, other)", "__eq__": "(self, other)",
               "__len__": "(self)", "__bool__": "(self)", "__str__": "(self)", "__iter__": "(self)"},
+    Bounds: {"__getitem__": None, "__contains__": None, "__bool__": "(self)", "__len__": "(self)",
+             "at_most": "(self, other)", "__eq__": "(self, other)", "__str__": "(self)", "__iter__": "(self)"},
+    Crossing: OF_CROSSINGS,
+    WatchedCrossing: OF_CROSSINGS,
+    Shell: {"execute": "(self, value)", "__call__": "(self, value)", "transcript": "(self)"},
 }
-PROPERTIES = {Rule: ("table", "lanes"), Orders: (), Learned: ("lanes", "days", "rules_left")}
+PROPERTIES = {Rule: ("table", "lanes"), Orders: (), Learned: ("lanes", "days", "rules_left"), Bounds: (),
+              Crossing: ("cars", "length", "previous", "upcoming"),
+              WatchedCrossing: ("cars", "length", "previous", "upcoming", "overs", "bound"), Shell: ("last",)}
 
 
 def shown(value):
     """Values as repr shows them; objects of the package by what they hold."""
-    if isinstance(value, (Rule, Learned, Orders)):
+    if isinstance(value, (Rule, Learned, Orders, Bounds)):
         return (value.__class__.__name__, repr(vars(value)))
+    if isinstance(value, Crossing):
+        return (str(value), repr(shown_by(value)))
+    if isinstance(value, Shell):
+        return repr(value.transcript())
+    if isinstance(value, (tuple, list)):
+        return [shown(item) for item in value]
     return repr(value)
 
 
@@ -81,11 +119,17 @@ def result(call, *args):
 def right_values():
     """Values that are right in some places."""
     return [None, 0, 1, 2, 3, Z, R, O, E, D, "aaap", "aapp", "apapapapap", (0, 1), (0, 0, 1), (0, 1, 0), ("before", 0, 1),
-            ("rule", Z), ("ring", 0, (0, 1)), ("history", "aaaaappppp"), ("overtaken", 1), ("clash", 0, 1)]
+            ("rule", Z), ("ring", 0, (0, 1)), ("history", "aaaaappppp"), ("overtaken", 1), ("clash", 0, 1), ("ring", (0,)),
+            ("bound", (None, 0), (1, 0, 1)), ("go",), ("come", 1), ("change", K), (("go",), ("come", 0)), [("go",), ("go",)],
+            "01 10 01", "0 2 1", "none", "go", "come 1", "undo", "change 01 01 01", "possible 0 2 1 4 3"]
 
 
 def objects():
-    return [Rule(Z), Orders(Z, R), Learned(2, E)]
+    crossing = WatchedCrossing(Z, bound=3)
+    crossing.come_all(*R)
+    crossing.go()
+    return [Rule(Z), Orders(Z, R), Learned(2, E), Bounds(Z), Crossing.of(Z, *R), crossing,
+            Shell.fed(Crossing(Z), "come 0", "go")]
 
 
 class TestConventions(ErrorCase):
@@ -115,17 +159,24 @@ class TestConventions(ErrorCase):
 
     def test_a_call_that_raises_an_error_changes_nothing(self):
         made = objects()
-        rule, listed, learned = made
+        rule, listed, learned, bounds, crossing, watched, shell = made
         wrong = [lambda value: rule(value, (0, 1)), lambda value: rule(0, (value,)), lambda value: rule[value],
                  lambda value: listed[value], lambda value: listed.place_of(value), lambda value: learned[value],
-                 lambda value: learned(value, "aapp"), lambda value: learned((0, 1), value)]
+                 lambda value: learned(value, "aapp"), lambda value: learned((0, 1), value), lambda value: bounds[value]]
+        for one in (crossing, watched):
+            wrong += [one, one.come, one.change, lambda value, one=one: one.come_all(0, 1, value),
+                      lambda value, one=one: one.attempt([("go",), value]),
+                      lambda value, one=one: one.attempt([("come", 0), ("change", value)]),
+                      lambda value, one=one: one.row(version=(value,))]
         before = [shown(value) for value in made]
         for value in [*any_values(), "0", (0, 7), 9]:
             for call in wrong:
                 with self.assertRaises(PassError):
                     call(value)
-        with self.assertRaises(PassError):
-            learned + Learned(3)
+        for call in (lambda: learned + Learned(3), lambda: bounds.at_most(Bounds(rules.turns_rule(3))), crossing.undo,
+                     lambda: watched.go_until(0), lambda: watched.go_until(5)):
+            with self.assertRaises(PassError):
+                call()
         self.assertEqual([shown(value) for value in made], before)
 
     def test_later_changes_to_an_argument_have_no_effect(self):
@@ -137,6 +188,18 @@ class TestConventions(ErrorCase):
         days[:] = [F, F]
         self.assertEqual((repr(made), shown(learned)), before)
         self.assertEqual(list(walk), [Z])
+
+    def test_later_changes_to_lanes_and_batches_have_no_effect(self):
+        lanes, batch = [0, 1, 1], [("go",), ("come", 0)]
+        for kind in (Crossing, WatchedCrossing):
+            crossing = kind.of(Z, *lanes)
+            crossing.come_all(*lanes)
+            crossing.attempt(batch)
+            before = shown(crossing)
+            lanes.reverse()
+            batch[:] = [("go",)] * 5
+            self.assertEqual(shown(crossing), before)
+            lanes, batch = [0, 1, 1], [("go",), ("come", 0)]
 
     def test_bools_are_no_integers(self):
         self.assertFalse(rules.is_rule(((False,), (False,))))
@@ -151,6 +214,11 @@ class TestConventions(ErrorCase):
         self.assert_error(learning.NoCount(True), learning.count_rules, True)
         self.assertFalse(learning.is_day(2, ((0, True), "aapp", (0, 1))))
         self.assertFalse(histories.is_wish(R, ("before", False, True)))
+        self.assert_error(rules.NoLane(True), fairness.bound_of, Z, True)
+        self.assert_error(rules.NoCount(True), fairness.worst_day, K, 1, True)
+        self.assertFalse(fairness.lane_verdict_holds(K, 1, ("ring", (False,))))
+        self.assert_error(rules.NoLane(False), Crossing(Z).come, False)
+        self.assertNotIn(False, Crossing.of(Z, 0, 1))
 
 
 class TestKinds(ErrorCase):
@@ -177,6 +245,14 @@ class TestKinds(ErrorCase):
                  learning.foretold((0, 1), "aapp", 2, E), Learned(2, E)[0], Learned(2, E).days]
         made += [histories.counts_of(R, "apapapapap"), histories.longest_line(Z, R, O),
                  histories.longest_in_lane(Z, R, O, 0)]
+        made += [fairness.lane_bounds(K), fairness.lane_verdict(Z, 0), fairness.lane_verdict(K, 1), fairness.starving(K),
+                 *rings(K, 1), fairness.favoured(Z, 1, 0), fairness.mending(K, 1), fairness.waits(Z, R, "aaap"),
+                 fairness.passed_over(Z, R, "aaap"), fairness.worst_day(K, 1, 3), fairness.telling_day(Z, K),
+                 fairness.telling_days(Z, Z, K), texts.parse_rule("0 0"), texts.parse_numbers("0 1", 2)]
+        for crossing in objects()[4:6]:
+            made += [crossing.current(), crossing.row(), crossing.waiting(), crossing.passed(), crossing.edits(), crossing(0),
+                     crossing.row(version=0), Crossing.turned(Z)]
+        made += [crossing.overs, objects()[6].transcript(), objects()[6].last, Shell.WORDS]
         for value in made:
             self.assertIsInstance(value, tuple)
             self.check(value)
@@ -199,3 +275,15 @@ class TestInterface(ErrorCase):
                     self.assertEqual(str(signature(vars(kind)[name])), expected)
             for name in PROPERTIES[kind]:
                 self.assertIsInstance(vars(kind)[name], property)
+
+    def test_class_methods_static_methods_and_class_values(self):
+        for kind in (Crossing, WatchedCrossing):
+            self.assertIsInstance(vars(kind)["of"], classmethod)
+            self.assertEqual(str(signature(kind.of)), "(rule, *lanes)")
+        self.assertIsInstance(vars(Crossing)["turned"], staticmethod)
+        self.assertEqual(str(signature(Crossing.turned)), "(rule)")
+        self.assertIsInstance(vars(Shell)["fed"], classmethod)
+        self.assertEqual(str(signature(Shell.fed)), "(crossing, *commands)")
+        self.assertIn("LIMIT", vars(Crossing))
+        self.assertIn("WORDS", vars(Shell))
+        self.assertEqual(set(METHODS), set(CLASSES.values()))

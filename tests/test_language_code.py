@@ -32,7 +32,7 @@ WRONG = {
             "def told(rows):\n    return range(3)", "def told(rows):\n    kept = zip(rows, rows)\n    return 1",
             "def told(rows):\n    xs = list(rows)\n    for x in xs:\n        xs.append(x)",
             "def told(rows):\n    xs = list(rows)\n    for k, x in enumerate(xs):\n        xs[k] = x",
-            "def told(rows):\n    return first(each_row)"],
+            "def told(rows):\n    return first(each_row)", "class Row:\n    def each_row(self):\n        return 1"],
     "L7": ["def told(rows):\n    return sum(x for x in rows)", "ROWS = [x for x in (1, 2)]",
            "def told(rows):\n    return first(*list(rows))"],
     "L24": ["def told(rows):\n    return set(rows)", "def told(rows):\n    return list({x for x in rows})"],
@@ -40,7 +40,21 @@ WRONG = {
            "        return 1\n    def __iter__(self):\n        raise TypeError('no')",
            "class Row:\n    def __getitem__(self, at):\n        return 1",
            "class Row:\n    def __hash__(self):\n        return 1",
-           "class Row:\n    def __bool__(self):\n        return self.rows"],
+           "class Row:\n    def __bool__(self):\n        return self.rows",
+           "class Row:\n    NAMES = ['a']", "class Row:\n    rows = 3", "class Row:\n    Box = 3",
+           "class Row:\n    @staticmethod\n    def rows(x):\n        return x",
+           "class Row:\n    @classmethod\n    def made(cls, x):\n        return first([cls])",
+           "class Row:\n    @classmethod\n    def made(cls, x):\n        return super().made(x)",
+           "class Row:\n    @property\n    def rows(self):\n        return 1",
+           "class Row(Box):\n    def many(self):\n        return super().__len__()",
+           "class Row(Box):\n    def many(self):\n        return [super().many() for x in (1, 2)]",
+           "class Row(Box):\n    def many(self):\n        return super().rows",
+           "class Row:\n    @property\n    def big(self):\n        return 1\nclass Low(Row):\n"
+           "    def many(self):\n        return super().big()",
+           "class Row:\n    def many(self):\n        return 1\ndef told(row):\n    return Row.many(row)"],
+    "L6": ["def told(rows):\n    try:\n        return rows[0]\n    finally:\n        rows.pop()",
+           "def told(rows):\n    try:\n        return rows[0]\n    finally:\n        return 1",
+           "def told(rows):\n    k = 0\n    try:\n        return rows[0]\n    finally:\n        k = first(rows)"],
     "L15": ["def told(first):\n    return first", "def told(rows):\n    each_row = 1\n    return each_row", "ROW = 1\nROW = 2"],
     "L28": ["class Row:\n    def __eq__(self, other):\n        x = 1\n        return x == 2",
             "class Row:\n    def __len__(self):\n        return self.rows",
@@ -62,6 +76,39 @@ def told(rows, text):
         kept[at] = 1
     seen = set(kept)
     return (sorted(set(kept)), tuple(each_row(rows)), len(text.split(",")), first(kept), 7 in seen, first(rows=kept))
+
+
+class Row(Box):
+    MOST = 3
+    NAMES = ("a", "b")
+
+    def __init__(self, rows):
+        super().__init__(rows)
+        self.held = True
+
+    @classmethod
+    def made(cls, *rows):
+        return cls(rows[:cls.MOST])
+
+    @staticmethod
+    def told(x):
+        return x
+
+    @property
+    def many(self):
+        return len(self.rows)
+
+    def shut(self, kept):
+        try:
+            kept = self.MOST
+        finally:
+            self.held = False
+            self.rows = kept
+        return self.NAMES
+
+class Low(Row):
+    def shut(self, kept):
+        return super().shut(kept)
 """
 
 
