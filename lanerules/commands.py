@@ -125,8 +125,9 @@ def answer_of(crossing, command):
     if command in ALONE:
         alone = ALONE[command]
         return alone(crossing)
+    # Without a space the text is empty, and no argument has an empty text.
     word, space, text = command.partition(" ")
-    if space == "" or word not in WITH_TEXT:
+    if word not in WITH_TEXT:
         return None
     action = WITH_TEXT[word]
     return action(crossing, text)

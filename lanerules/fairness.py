@@ -88,7 +88,7 @@ def is_chain(rule, lane, items):
 
 def is_ring_for(rule, lane, value):
     """Whether value is a ring for the lane."""
-    if not isinstance(value, tuple) or len(value) == 0 or not is_lane(rule, value[-1]):
+    if not isinstance(value, tuple) or len(value) == 0:
         return False
     return is_chain(rule, lane, (value[-1], *value)) and len(set(value)) == len(value)
 

@@ -5,7 +5,7 @@ import builtins
 import io
 import tokenize
 
-from tests import class_code
+from tests import class_code, place_code
 
 METHODS = set("""append clear copy count endswith extend find get index insert isalnum isalpha isdigit islower isspace
     isupper items join keys ljust lower lstrip partition pop remove replace reverse rfind rjust rpartition rsplit rstrip
@@ -39,7 +39,7 @@ class Code:
         self.stored = {node.attr for node in every
                        if isinstance(node, ast.Attribute) and isinstance(node.ctx, ast.Store)}
         self.values = {target.id for node in every if isinstance(node, ast.ClassDef) for row in node.body
-                       if isinstance(row, ast.Assign) for target in row.targets}
+                       if isinstance(row, ast.Assign) for target in row.targets if isinstance(target, ast.Name)}
         self.generators = {node.name for node in defined
                            if any(isinstance(row, (ast.Yield, ast.YieldFrom)) for row in ast.walk(node))}
 
@@ -147,7 +147,8 @@ def name_faults(code):
         imported = [alias.asname or alias.name for row in tree.body if isinstance(row, ast.ImportFrom)
                     for alias in row.names]
         defined = [row.name for row in tree.body if isinstance(row, (ast.FunctionDef, ast.ClassDef))]
-        values = [target.id for row in tree.body if isinstance(row, ast.Assign) for target in row.targets]
+        values = [target.id for row in tree.body if isinstance(row, ast.Assign) for target in row.targets
+                  if isinstance(target, ast.Name)]
         bound = imported + defined + values
         for twice in {one for one in bound if bound.count(one) > 1}:
             yield name, tree.body[0], f"L15: {twice} is bound twice"
@@ -271,7 +272,8 @@ def cycle_faults(code):
 
 
 READERS = (method_faults, generator_faults, set_faults, iteration_faults, loop_faults, name_faults, operator_shape_faults,
-           call_faults, value_faults, handler_faults, text_faults, cycle_faults, *class_code.READERS)
+           call_faults, value_faults, handler_faults, text_faults, cycle_faults, *class_code.READERS,
+           *place_code.READERS)
 
 
 def language_faults(texts):

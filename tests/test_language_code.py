@@ -25,8 +25,11 @@ class Box:
 """
 
 WRONG = {
-    "L25": ["def told(text):\n    return text.format(1)", "def told(x):\n    return x.bit_count()"],
-    "L18": ["def told(box):\n    return box.other", "class Twice:\n    def a(self):\n        return 1\n"
+    "L25": ["class Row:\n    def many(self):\n        return 1\n\ndef told(row):\n    return [row.many]",
+            "def told(text):\n    return text.format(1)", "def told(x):\n    return x.bit_count()"],
+    "L18": ["def told(rows):\n    return [Box]", "def told(rows):\n    kind = Bad\n    return kind",
+            "def told(rows):\n    return isinstance(Box, tuple)",
+            "def told(box):\n    return box.other", "class Twice:\n    def a(self):\n        return 1\n"
             "    def a(self):\n        return 2"],
     "L23": ["def told(rows):\n    return each_row(rows)", "def told(rows):\n    kept = each_row(rows)\n    return kept",
             "def told(rows):\n    return range(3)", "def told(rows):\n    kept = zip(rows, rows)\n    return 1",
@@ -34,7 +37,8 @@ WRONG = {
             "def told(rows):\n    xs = list(rows)\n    for k, x in enumerate(xs):\n        xs[k] = x",
             "def told(rows):\n    return first(each_row)", "class Row:\n    def each_row(self):\n        return 1"],
     "L7": ["def told(rows):\n    return sum(x for x in rows)", "ROWS = [x for x in (1, 2)]",
-           "def told(rows):\n    return first(*list(rows))"],
+           "def told(rows):\n    return first(*list(rows))", "def told(n):\n    return f'{n:e}'",
+           "def told(n, k):\n    return f'{n:>{k}}'", "def told(n):\n    return f'{n!a}'"],
     "L24": ["def told(rows):\n    return set(rows)", "def told(rows):\n    return list({x for x in rows})"],
     "L5": ["def told(rows):\n    return list(reversed(rows))\nclass Row:\n    def __getitem__(self, at):\n"
            "        return 1\n    def __iter__(self):\n        raise TypeError('no')",
@@ -52,22 +56,39 @@ WRONG = {
            "class Row:\n    @property\n    def big(self):\n        return 1\nclass Low(Row):\n"
            "    def many(self):\n        return super().big()",
            "class Row:\n    def many(self):\n        return 1\ndef told(row):\n    return Row.many(row)"],
+    "L3": ["ROWS = 1 if 2 else 3", "ROWS = [1, [2]]", "ROWS = {'a': {}}", "A, B = 1, 2", "ROWS = first([1])", "ROWS = 1.5"],
+    "L21": ["def told(rows: list):\n    return rows", "def told(rows) -> int:\n    return 1"],
     "L6": ["def told(rows):\n    try:\n        return rows[0]\n    finally:\n        rows.pop()",
            "def told(rows):\n    try:\n        return rows[0]\n    finally:\n        return 1",
            "def told(rows):\n    k = 0\n    try:\n        return rows[0]\n    finally:\n        k = first(rows)"],
-    "L15": ["def told(first):\n    return first", "def told(rows):\n    each_row = 1\n    return each_row", "ROW = 1\nROW = 2"],
+    "L15": ["def told(first):\n    return first", "def told(rows):\n    each_row = 1\n    return each_row", "ROW = 1\nROW = 2",
+            "ROWS = [1]\ndef told(x):\n    ROWS.append(x)", "ROWS = [1]\ndef told(x):\n    ROWS[0] = x",
+            "ROWS = [1]\ndef told(x):\n    return ROWS", "ACTS = {'a': first}\ndef told(x):\n    return ACTS['a'](x)"],
     "L28": ["class Row:\n    def __eq__(self, other):\n        x = 1\n        return x == 2",
             "class Row:\n    def __len__(self):\n        return self.rows",
             "class Row:\n    def __str__(self):\n        return self.rows"],
     "L22": ["def told(rows):\n    return first(rows, 1)", "def told(rows):\n    return first()",
+            "def told(rows):\n    return isinstance(rows, set)", "def told(rows):\n    return isinstance(rows, (int, float))",
             "def told(rows):\n    return int(rows, base=2)", "def told(rows):\n    return first(row=rows)"],
     "L27": ["def told(n):\n    return 2 ** n", "TEXT = '\\x41'", "TEXT = 'a._'"],
-    "L4": ["def told(rows=[]):\n    return rows"],
-    "L19": ["def told(rows):\n    try:\n        return rows[0]\n    except TypeError:\n        return 1"],
+    "L4": ["def told(rows=[]):\n    return rows", "def told(rows, /):\n    return rows", "def told():\n    return lambda *x: x",
+           "class Row:\n    def __call__(self, *x):\n        return x"],
+    "L19": ["def told(rows):\n    try:\n        return first(rows)\n    except Bad as e:\n        return [e]",
+            "def told(rows):\n    try:\n        return first(rows)\n    except Bad as e:\n        return e.args",
+            "def told(rows):\n    try:\n        return rows[0]\n    except TypeError:\n        return 1"],
     "L16": ["from lanerules.box import first\n"],
 }
 
 FINE = """
+ACTS = {"first": first}
+
+def acted(word, rows):
+    act = ACTS[word]
+    try:
+        return act(rows) if word in ACTS else f"{len(ACTS):>3} {word!r}"
+    except Bad as e:
+        return e.at
+
 def told(rows, text):
     kept = [row for row in each_row(rows)]
     for k, row in enumerate(rows):

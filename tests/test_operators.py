@@ -39,7 +39,9 @@ class TestOperators(TestCase):
     def test_what_is_looked_at(self):
         seen = {(node.file, node.name) for node in Package(texts()).reached()}
         for name in ("__contains__", "__getitem__", "__eq__", "table", "lanes", "is_precedence",
-                     "goes_before", "preference_after", "foremost", "is_within"):
+                     "goes_before", "preference_after", "foremost", "is_within", "overs", "bound", "cars", "upcoming",
+                     "last", "present", "waiting_cars", "cars_ahead", "next_car", "overs_in", "looks_like", "sizes_text",
+                     "lane_at", "is_waiting", "numbers_text", "bound_line"):
             self.assertIn(name, {name for file, name in seen})
 
 

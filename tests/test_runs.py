@@ -168,7 +168,8 @@ class TestVerdicts(ErrorCase):
         for value in [*wrong, *any_values()]:
             self.assertIs(lane_verdict_holds(Z, 1, value), False, value)
         self.assertIs(lane_verdict_holds(K, 1, ("ring", (0,))), True)
-        for value in [("ring", (False,)), ("ring", (0, 0)), ("ring", [0]), ("ring", (1,)), ("ring", (0, 1)), ("ring", 0),
+        for value in [(None, (0,)), ("bound", (0,)), ("Ring", (0,)), ("", (0,)), ("ring", (False,)), ("ring", (0, 0)),
+                      ("ring", [0]), ("ring", (1,)), ("ring", (0, 1)), ("ring", 0),
                       ("bound", (None, 0), (1, 0, 1)), ("ring", (None,)), ("ring", ("0",)), ("ring", (-2,)), ("ring", (2,))]:
             self.assertIs(lane_verdict_holds(K, 1, value), False, value)
 

@@ -66,6 +66,11 @@ class TestRules(ErrorCase):
         seven = rule_text(turns_rule(6))
         for text in ("", "0", "01", "none", "x", seven + " 012345", seven + " ", " " * 7, "0 " * 8, "x" * 3000, " " * 3000):
             self.assert_error(BadText(0), parse_rule, text)
+        # Seven lanes, and so on: each word would be a preference.
+        for size in (7, 8, 9, 10):
+            text = " ".join(["0123456789"[:size]] * (size + 1))
+            self.assert_error(BadText(0), parse_rule, text)
+            self.assert_error(BadText(0), parse_rule, text[:-1])
 
     def test_the_first_wrong_word(self):
         for text, index in ((" ", 0), ("0 ", 1), (" 0", 0), ("0  0", 0), ("01 10", 0), ("0 00", 1), ("01 10 00", 2),
